@@ -1,0 +1,1 @@
+"""Movedays: who must have moved, and who may be at home."""

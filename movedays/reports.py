@@ -1,0 +1,82 @@
+"""Reports of a village: who lived in one house lives in another one now."""
+
+from movedays.errors import Clash, NoReport
+from movedays.villages import Village, need_houses
+
+
+def no_farther(village, one, other):
+    """Whether two, each a pair of its house then and its house now, are no farther apart now."""
+    x, p = one
+    z, q = other
+    return village.apart(p, q) <= village.apart(x, z)
+
+
+def in_each(house, balls):
+    """Whether the house is in each of the balls."""
+    return all([house in ball for ball in balls])
+
+
+class Reports:
+    """The reports that were heard; some tale fits them all."""
+
+    def __init__(self, village):
+        # An own village, since nothing that is handed in is kept.
+        self._village = Village(village.roads())
+        self._heard = []
+
+    def __eq__(self, other):
+        return isinstance(other, Reports) and self._village == other._village and self._heard == other._heard
+
+    def __ne__(self, other):
+        return not self == other
+
+    def village(self):
+        """The village."""
+        return self._village
+
+    def tell(self, x, y):
+        """Hear that who lived in x lives in y now."""
+        need_houses(self._village, [x, y])
+        report = (x, y)
+        # In the order of tuples: the first that clashes is the least.
+        for heard in self._heard:
+            if not no_farther(self._village, report, heard):
+                raise Clash((report, heard))
+        if report not in self._heard:
+            self._heard = sorted(self._heard + [report])
+
+    def take_back(self, x, y):
+        """Forget that who lived in x lives in y now."""
+        need_houses(self._village, [x, y])
+        report = (x, y)
+        if report not in self._heard:
+            raise NoReport(report)
+        self._heard = [heard for heard in self._heard if heard != report]
+
+    def reports(self):
+        """The reports, in the order of tuples, each once."""
+        return list(self._heard)
+
+    def may_live(self, x):
+        """The houses, rising, where who lived in x lives in some tale that fits."""
+        need_houses(self._village, [x])
+        # Nobody lives farther from who is reported than they did.
+        balls = [self._village.ball(now, self._village.apart(then, x)) for then, now in self._heard]
+        return [p for p in range(self._village.houses()) if in_each(p, balls)]
+
+    def may(self, choices):
+        """Whether in one tale that fits each x of the pairs (x, p) lives in its p."""
+        for x, p in choices:
+            need_houses(self._village, [x, p])
+        if not all([p in self.may_live(x) for x, p in choices]):
+            return False
+        return all([no_farther(self._village, one, other) for one in choices for other in choices])
+
+    def near(self, x, z):
+        """How far who lived in x and z live from one another now: (least, greatest)."""
+        # Asked first, so that x is refused ahead of z.
+        bound = self._village.apart(x, z)
+        homes = self.may_live(z)
+        told = [self._village.apart(p, q) for p in self.may_live(x) for q in homes]
+        ways = [many for many in told if many <= bound]
+        return (min(ways), max(ways))
