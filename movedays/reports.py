@@ -11,9 +11,13 @@ def no_farther(village, one, other):
     return village.apart(p, q) <= village.apart(x, z)
 
 
-def in_each(house, balls):
-    """Whether the house is in each of the balls."""
-    return all([house in ball for ball in balls])
+def fits_each(village, choice, rows):
+    """Whether a choice is no farther from each of the rows now; all are pairs as above."""
+    x, p = choice
+    # Both asked once, since there may be many rows.
+    far_then = village.far(x)
+    far_now = village.far(p)
+    return all([far_now[q] <= far_then[z] for z, q in rows])
 
 
 class Reports:
@@ -59,18 +63,21 @@ class Reports:
 
     def may_live(self, x):
         """The houses, rising, where who lived in x lives in some tale that fits."""
-        need_houses(self._village, [x])
+        far_then = self._village.far(x)
+        homes = list(range(self._village.houses()))
         # Nobody lives farther from who is reported than they did.
-        balls = [self._village.ball(now, self._village.apart(then, x)) for then, now in self._heard]
-        return [p for p in range(self._village.houses()) if in_each(p, balls)]
+        for then, now in self._heard:
+            far_now = self._village.far(now)
+            homes = [p for p in homes if far_now[p] <= far_then[then]]
+        return homes
 
     def may(self, choices):
         """Whether in one tale that fits each x of the pairs (x, p) lives in its p."""
         for x, p in choices:
             need_houses(self._village, [x, p])
-        if not all([p in self.may_live(x) for x, p in choices]):
-            return False
-        return all([no_farther(self._village, one, other) for one in choices for other in choices])
+        # One may live just where each report by itself lets it: a report counts as one choice more.
+        rows = self._heard + list(choices)
+        return all([fits_each(self._village, choice, rows) for choice in choices])
 
     def near(self, x, z):
         """How far who lived in x and z live from one another now: (least, greatest)."""

@@ -95,6 +95,11 @@ class Village:
         need_houses(self, [x, y])
         return self._far[x][y]
 
+    def far(self, x):
+        """How far each house is from x, told by house; for who asks many of these at once."""
+        need_houses(self, [x])
+        return list(self._far[x])
+
     def ball(self, y, r):
         """The houses that are not farther than r from y, rising."""
         need_houses(self, [y])

@@ -3,25 +3,11 @@
 import random
 import unittest
 
+from asking import Asking, heard_of, seconds
 from by_hand import apart_by_hand, grown, homes_in_some_tale, row_of, some_tale, star_of
-from movedays.errors import Clash, NoHouse, NoReport, VillageError
+from movedays.errors import Clash, NoHouse, NoReport
 from movedays.reports import Reports
 from movedays.villages import Village
-
-
-def heard_of(roads, told):
-    heard = Reports(Village(roads))
-    for x, y in told:
-        heard.tell(x, y)
-    return heard
-
-
-class Asking(unittest.TestCase):
-    def refused(self, error, what, ask, *told):
-        with self.assertRaises(VillageError) as caught:
-            ask(*told)
-        self.assertIs(type(caught.exception), error)
-        self.assertEqual(caught.exception.what, what)
 
 
 class Telling(Asking):
@@ -274,6 +260,61 @@ class May(unittest.TestCase):
         self.assertIs(heard.may([(0, 0), (1, 0), (2, 0)]), True)
 
 
+class ManyChoices(Asking):
+    """Forty houses in a row, forty reports, forty choices."""
+
+    def setUp(self):
+        self.stayed = [(x, x) for x in range(40)]
+        self.turned = [(x, 39 - x) for x in range(40)]
+        self.heard = heard_of(row_of(40), self.stayed)
+
+    def test_all_as_reported(self):
+        self.assertIs(self.heard.may(self.stayed), True)
+        self.assertIs(self.heard.may(self.stayed[::-1]), True)
+        self.assertIs(heard_of(row_of(40), self.turned).may(self.turned), True)
+
+    def test_one_of_them_not_as_reported(self):
+        for x in range(40):
+            for p in [(x + 1) % 40, (x + 39) % 40]:
+                choices = self.stayed[:x] + [(x, p)] + self.stayed[x + 1:]
+                self.assertIs(self.heard.may(choices), False)
+
+    def test_fit_for_each_other_but_not_for_the_reports(self):
+        self.assertIs(self.heard.may(self.turned), False)
+        self.assertIs(heard_of(row_of(40), [(39, 37)]).may(self.stayed[:39]), True)
+        self.assertIs(heard_of(row_of(40), [(39, 36)]).may(self.stayed[:39]), False)
+
+    def test_fit_for_the_reports_but_not_for_each_other(self):
+        heard = heard_of(row_of(40), [(20, 20)])
+        self.assertIs(heard.may(self.stayed), True)
+        for x in [0, 19, 21, 39]:
+            choices = self.stayed[:x] + [(x, 40 - x if x else 39)] + self.stayed[x + 1:]
+            self.assertEqual([p in heard.may_live(x) for x, p in choices], [True] * 40)
+            self.assertIs(heard.may(choices), False)
+
+    def test_without_reports(self):
+        heard = heard_of(row_of(40), [])
+        self.assertIs(heard.may(self.turned), True)
+        self.assertIs(heard.may([(x, 7) for x in range(40)]), True)
+        self.assertIs(heard.may(self.turned[:39] + [(39, 3)]), False)
+        self.assertIs(heard.may([(39, 3)] + self.turned[:39]), False)
+
+    def test_refusals_go_first_and_in_order(self):
+        self.refused(NoHouse, 40, self.heard.may, self.stayed[:39] + [(39, 40)])
+        self.refused(NoHouse, -1, self.heard.may, self.turned[:39] + [(-1, 40)])
+        self.refused(NoHouse, 40, self.heard.may, self.turned[:20] + [(20, 40), (41, 0)] + self.turned[22:])
+        self.assertEqual(self.heard.reports(), self.stayed)
+
+    def test_choices_stay_as_they_are(self):
+        choices = list(self.stayed)
+        self.heard.may(choices)
+        self.assertEqual(choices, self.stayed)
+        self.assertEqual(self.heard.reports(), self.stayed)
+
+    def test_quick_enough(self):
+        self.assertLess(seconds(lambda: self.heard.may(self.stayed)), 0.003)
+
+
 class Near(unittest.TestCase):
     def test_of_one_house_with_itself(self):
         self.assertEqual(heard_of(row_of(3), []).near(1, 1), (0, 0))
@@ -351,6 +392,15 @@ class GreaterVillages(unittest.TestCase):
                 choices = [(x, chance.choice(heard.may_live(x))) for x in chance.sample(houses, many)]
                 if chance.random() < 0.2:
                     choices.append((chance.choice(houses), chance.choice(houses)))
+                self.assertIs(heard.may(choices), all(homes_in_some_tale(roads, told + choices)))
+
+    def test_may_of_many_choices_one_of_them_thrown(self):
+        for chance, roads, tale, told in self.cases():
+            heard = heard_of(roads, told)
+            for _ in range(4):
+                choices = [(x, tale[x]) for x in chance.choices(range(len(tale)), k=39)]
+                x = chance.randrange(len(tale))
+                choices.insert(chance.randrange(40), (x, chance.choice(heard.may_live(x))))
                 self.assertIs(heard.may(choices), all(homes_in_some_tale(roads, told + choices)))
 
     def test_near(self):
