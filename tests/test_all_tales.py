@@ -1,4 +1,4 @@
-"""[1], [4], [7], [8], [9]: small villages, held against all tales that fit, one by one."""
+"""[1], [4], [7] to [12]: small villages, held against all tales that fit, one by one."""
 
 import random
 import unittest
@@ -6,6 +6,8 @@ from itertools import combinations
 
 from by_hand import all_tales, apart_by_hand, fitting, trees
 from movedays.errors import Clash
+from movedays.homes import changed, home_paper, may_be_home, moved_paper, surely_home
+from movedays.moves import laziest, least_move, nearest
 from movedays.reports import Reports
 from movedays.villages import Village
 
@@ -37,8 +39,13 @@ class AllTales(unittest.TestCase):
                 kept = sorted(set(kept + [report]))
             self.assertEqual(heard.reports(), kept)
         left = fitting(tales, kept)
+        far = apart_by_hand(roads)
         self.hold_homes(heard, left)
-        self.hold_near(apart_by_hand(roads), heard, left)
+        self.hold_near(far, heard, left)
+        self.hold_moves(far, heard, left)
+        self.hold_at_home(far, heard, left)
+        self.hold_papers(far, heard, tales)
+        self.assertEqual(heard.reports(), kept)
         return heard, left
 
     def hold_homes(self, heard, left):
@@ -55,6 +62,45 @@ class AllTales(unittest.TestCase):
                 ways = {far[tale[x]][tale[z]] for tale in left}
                 self.assertEqual(heard.near(x, z), (min(ways), max(ways)))
                 self.assertEqual(len(ways), max(ways) - min(ways) + 1)
+
+    def hold_moves(self, far, heard, left):
+        houses = range(len(far))
+        least = [min(far[x][tale[x]] for tale in left) for x in houses]
+        self.assertEqual([least_move(heard, x) for x in houses], least)
+        # There is just one such tale.
+        lazy = [tale for tale in left if [far[x][tale[x]] for x in houses] == least]
+        self.assertEqual([laziest(heard)], lazy)
+        for t in houses:
+            least = [min(far[t][tale[x]] for tale in left) for x in houses]
+            near = [tale for tale in left if [far[t][p] for p in tale] == least]
+            self.assertEqual([nearest(heard, t)], near)
+
+    def hold_at_home(self, far, heard, left):
+        houses = range(len(far))
+        may = [c for c in houses if any(tale[c] == c for tale in left)]
+        self.assertEqual(may_be_home(heard), may)
+        self.assertEqual([c for c, p in enumerate(laziest(heard)) if p == c], may)
+        self.assertEqual(surely_home(heard), [c for c in houses if all(tale[c] == c for tale in left)])
+        if may:
+            self.assertIsNone(changed(heard))
+        else:
+            doors = [(x, y) for x in houses for y in houses if x < y and far[x][y] == 1]
+            pairs = [(x, y) for x, y in doors if all((tale[x], tale[y]) == (y, x) for tale in left)]
+            self.assertEqual([changed(heard)], pairs)
+
+    def hold_papers(self, far, heard, tales):
+        told = heard.reports()
+        papers = [paper for many in range(len(told) + 1) for paper in combinations(told, many)]
+        by_paper = [(list(paper), fitting(tales, paper)) for paper in papers]
+        for c in range(len(far)):
+            home = [paper for paper, left in by_paper if all(tale[c] == c for tale in left)]
+            self.assertEqual(home_paper(heard, c), home[0] if home else None)
+            self.assertTrue(not home or len(home[0]) <= 2)
+            moved = [(min(far[c][tale[c]] for tale in left), paper) for paper, left in by_paper if len(paper) == 1]
+            most = max([many for many, _ in moved], default=0)
+            self.assertEqual(most, least_move(heard, c))
+            farthest = [paper[0] for many, paper in moved if many == most]
+            self.assertEqual(moved_paper(heard, c), farthest[0] if most else None)
 
     def hold_two_choices(self, heard, left):
         houses = range(len(left[0]))

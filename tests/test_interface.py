@@ -3,7 +3,7 @@
 import inspect
 import unittest
 
-from movedays import errors, reports, villages
+from movedays import errors, homes, moves, reports, tales, villages
 
 METHODS = {
     (villages, "Village"): {
@@ -31,6 +31,24 @@ METHODS = {
     },
 }
 
+FUNCTIONS = {
+    moves: {"least_move": ["reports", "x"], "laziest": ["reports"], "nearest": ["reports", "t"]},
+    homes: {
+        "may_be_home": ["reports"],
+        "surely_home": ["reports"],
+        "changed": ["reports"],
+        "home_paper": ["reports", "c"],
+        "moved_paper": ["reports", "c"],
+    },
+    tales: {
+        "is_tale": ["village", "tale"],
+        "at_home": ["village", "tale"],
+        "changed_in": ["village", "tale"],
+        "gone_on": ["village", "tale", "times"],
+        "meet": ["village", "tale", "x", "z"],
+    },
+}
+
 
 class Interface(unittest.TestCase):
     def test_methods_stand_in_the_class_itself_with_the_told_arguments(self):
@@ -46,6 +64,32 @@ class Interface(unittest.TestCase):
             self.assertEqual(getattr(module, name).__module__, module.__name__)
         for name in ["VillageError", "NoRoad", "NoHouse", "Clash", "NoReport", "NoTale", "NoDays", "NoText"]:
             self.assertEqual(getattr(errors, name).__module__, "movedays.errors")
+
+    def test_functions_stand_in_their_own_files_with_the_told_arguments(self):
+        for module, functions in FUNCTIONS.items():
+            for name, arguments in functions.items():
+                told = getattr(module, name)
+                self.assertTrue(inspect.isfunction(told), name)
+                self.assertEqual(told.__module__, module.__name__, name)
+                self.assertEqual(list(inspect.signature(told).parameters), arguments, name)
+
+    def test_arguments_of_functions_by_the_told_names(self):
+        village = villages.Village([(0, 1), (1, 2)])
+        heard = reports.Reports(village)
+        heard.tell(0, 2)
+        self.assertEqual(moves.least_move(x=0, reports=heard), 2)
+        self.assertEqual(moves.laziest(reports=heard), [2, 1, 2])
+        self.assertEqual(moves.nearest(t=0, reports=heard), [2, 1, 0])
+        self.assertEqual(homes.may_be_home(reports=heard), [1, 2])
+        self.assertEqual(homes.surely_home(reports=heard), [])
+        self.assertIsNone(homes.changed(reports=heard))
+        self.assertIsNone(homes.home_paper(c=1, reports=heard))
+        self.assertEqual(homes.moved_paper(c=0, reports=heard), (0, 2))
+        self.assertIs(tales.is_tale(tale=[2, 1, 0], village=village), True)
+        self.assertEqual(tales.at_home(tale=[2, 1, 0], village=village), [1])
+        self.assertEqual(tales.changed_in(tale=[1, 0, 1], village=village), (0, 1))
+        self.assertEqual(tales.gone_on(times=2, tale=[2, 1, 0], village=village), [0, 1, 2])
+        self.assertEqual(tales.meet(z=2, x=0, tale=[1, 0, 1], village=village), 1)
 
     def test_arguments_by_the_told_names(self):
         village = villages.Village(roads=[(0, 1), (1, 2)])

@@ -183,7 +183,7 @@ class Ways(unittest.TestCase):
 
     def test_told_lists_are_the_askers_own(self):
         village = Village(row_of(3))
-        for ask in [lambda: village.way(0, 2), lambda: village.ball(1, 1)]:
+        for ask in [lambda: village.way(0, 2), lambda: village.ball(1, 1), lambda: village.far(0)]:
             told = ask()
             told.reverse()
             told.append(99)
@@ -211,6 +211,7 @@ class Ways(unittest.TestCase):
         for x in houses:
             for y in houses:
                 self.assertEqual(village.apart(x, y), far[x][y])
+                self.assertEqual(village.far(x)[y], far[x][y])
                 way = village.way(x, y)
                 self.assertEqual((way[0], way[-1], len(way)), (x, y, far[x][y] + 1))
                 for one, other in zip(way, way[1:]):
@@ -253,6 +254,11 @@ class NoHouses(unittest.TestCase):
             self.refused(4, ask, 4, -2)
             self.refused(-2, ask, -2, 4)
             self.refused(7, ask, 7, 7)
+
+    def test_far(self):
+        village = Village(row_of(3))
+        for what in [3, -1, 10 ** 59]:
+            self.refused(what, village.far, what)
 
     def test_ball(self):
         village = Village(row_of(3))
