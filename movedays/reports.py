@@ -4,20 +4,13 @@ from movedays.errors import Clash, NoReport
 from movedays.villages import Village, need_houses
 
 
-def no_farther(village, one, other):
-    """Whether two, each a pair of its house then and its house now, are no farther apart now."""
+def too_far(village, one, rows):
+    """Those of the rows that one is farther from now; all are pairs of a house then and a house now."""
     x, p = one
-    z, q = other
-    return village.apart(p, q) <= village.apart(x, z)
-
-
-def fits_each(village, choice, rows):
-    """Whether a choice is no farther from each of the rows now; all are pairs as above."""
-    x, p = choice
     # Both asked once, since there may be many rows.
     far_then = village.far(x)
     far_now = village.far(p)
-    return all([far_now[q] <= far_then[z] for z, q in rows])
+    return [(z, q) for z, q in rows if far_now[q] > far_then[z]]
 
 
 class Reports:
@@ -42,10 +35,10 @@ class Reports:
         """Hear that who lived in x lives in y now."""
         need_houses(self._village, [x, y])
         report = (x, y)
-        # In the order of tuples: the first that clashes is the least.
-        for heard in self._heard:
-            if not no_farther(self._village, report, heard):
-                raise Clash((report, heard))
+        clashing = too_far(self._village, report, self._heard)
+        # In the order of tuples: the first is the least.
+        if clashing:
+            raise Clash((report, clashing[0]))
         if report not in self._heard:
             self._heard = sorted(self._heard + [report])
 
@@ -77,7 +70,7 @@ class Reports:
             need_houses(self._village, [x, p])
         # One may live just where each report by itself lets it: a report counts as one choice more.
         rows = self._heard + list(choices)
-        return all([fits_each(self._village, choice, rows) for choice in choices])
+        return all([not too_far(self._village, choice, rows) for choice in choices])
 
     def near(self, x, z):
         """How far who lived in x and z live from one another now: (least, greatest)."""

@@ -15,21 +15,29 @@ def need_houses(village, some):
             raise NoHouse(house)
 
 
-def joined(parts, x, y):
-    """The part of each house, told by house, once a road joins the parts of x and y."""
-    return [parts[y] if part == parts[x] else part for part in parts]
+def head_of(heads, x):
+    """The one house by which all houses are known that the roads ahead join to x."""
+    while heads[x] != x:
+        # Shortened while gone through, so that there is little to go through next time.
+        heads[x] = heads[heads[x]]
+        x = heads[x]
+    return x
 
 
 def roads_in_order(roads):
     """The roads, each with the lesser house ahead, in the order of tuples; or NoRoad."""
     many = len(roads) + 1
-    # Between two houses of one part there is a way by the roads ahead.
-    parts = list(range(many))
+    heads = list(range(many))
     rows = []
     for number, (x, y) in enumerate(roads):
-        if not is_house(many, x) or not is_house(many, y) or parts[x] == parts[y]:
+        if not is_house(many, x) or not is_house(many, y):
             raise NoRoad(number)
-        parts = joined(parts, x, y)
+        head = head_of(heads, x)
+        other = head_of(heads, y)
+        # Of one head: one house, or two between which there is a way by the roads ahead.
+        if head == other:
+            raise NoRoad(number)
+        heads[head] = other
         rows.append((min(x, y), max(x, y)))
     return sorted(rows)
 
@@ -60,13 +68,12 @@ def far_from(doors, start):
 
 
 class Village:
-    """Houses, numbered from 0, and roads; it never changes."""
+    """Houses, numbered from 0, and roads; what it tells never changes."""
 
     def __init__(self, roads):
-        rows = roads_in_order(roads)
-        doors = next_doors(rows)
-        self._roads = rows
-        self._far = [far_from(doors, x) for x in range(len(doors))]
+        self._roads = roads_in_order(roads)
+        self._doors = next_doors(self._roads)
+        self._known = {}
 
     def __eq__(self, other):
         return isinstance(other, Village) and self._roads == other._roads
@@ -76,7 +83,7 @@ class Village:
 
     def houses(self):
         """How many houses there are."""
-        return len(self._far)
+        return len(self._doors)
 
     def roads(self):
         """The roads, each with the lesser house ahead, in the order of tuples."""
@@ -85,25 +92,25 @@ class Village:
     def way(self, x, y):
         """The houses from x to y, both of them told, too."""
         many = self.apart(x, y)
-        far_x = self._far[x]
-        far_y = self._far[y]
+        far_x = self._far(x)
+        far_y = self._far(y)
         steps = [(far_x[at], at) for at in range(self.houses()) if far_x[at] + far_y[at] == many]
         return [step[1] for step in sorted(steps)]
 
     def apart(self, x, y):
         """How many roads the way from x to y has."""
         need_houses(self, [x, y])
-        return self._far[x][y]
+        return self._far(x)[y]
 
     def far(self, x):
         """How far each house is from x, told by house; for who asks many of these at once."""
         need_houses(self, [x])
-        return list(self._far[x])
+        return list(self._far(x))
 
     def ball(self, y, r):
         """The houses that are not farther than r from y, rising."""
         need_houses(self, [y])
-        far = self._far[y]
+        far = self._far(y)
         return [x for x in range(self.houses()) if far[x] <= r]
 
     def middle(self, some):
@@ -117,4 +124,12 @@ class Village:
 
     def _reach(self, x, some):
         """The greatest of the ways from x to some."""
-        return max([self._far[x][y] for y in some])
+        far = self._far(x)
+        return max([far[y] for y in some])
+
+    def _far(self, x):
+        """How far each house is from x, told by house."""
+        # Worked out when asked first: of a great village, as of one just read, few houses may be asked.
+        if x not in self._known:
+            self._known[x] = far_from(self._doors, x)
+        return self._known[x]

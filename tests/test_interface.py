@@ -3,7 +3,7 @@
 import inspect
 import unittest
 
-from movedays import errors, homes, moves, reports, tales, villages
+from movedays import errors, homes, moves, readings, reports, rounds, tales, texts, villages
 
 METHODS = {
     (villages, "Village"): {
@@ -47,6 +47,9 @@ FUNCTIONS = {
         "gone_on": ["village", "tale", "times"],
         "meet": ["village", "tale", "x", "z"],
     },
+    rounds: {"rounds": ["reports"]},
+    texts: {"show_village": ["village"], "show_reports": ["reports"], "show_tale": ["tale"]},
+    readings: {"read_village": ["text"], "read_reports": ["text"], "read_tale": ["text"]},
 }
 
 
@@ -90,6 +93,13 @@ class Interface(unittest.TestCase):
         self.assertEqual(tales.changed_in(tale=[1, 0, 1], village=village), (0, 1))
         self.assertEqual(tales.gone_on(times=2, tale=[2, 1, 0], village=village), [0, 1, 2])
         self.assertEqual(tales.meet(z=2, x=0, tale=[1, 0, 1], village=village), 1)
+        self.assertEqual(rounds.rounds(reports=heard), [])
+        self.assertEqual(texts.show_village(village=village), "0-1 1-2")
+        self.assertEqual(texts.show_reports(reports=heard), "0-1 1-2: 0>2")
+        self.assertEqual(texts.show_tale(tale=[2, 1, 0]), "2 1 0")
+        self.assertEqual(readings.read_village(text="0-1 1-2"), village)
+        self.assertEqual(readings.read_reports(text="0-1 1-2: 0>2"), heard)
+        self.assertEqual(readings.read_tale(text="2 1 0"), [2, 1, 0])
 
     def test_arguments_by_the_told_names(self):
         village = villages.Village(roads=[(0, 1), (1, 2)])

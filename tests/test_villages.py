@@ -107,6 +107,24 @@ class Making(unittest.TestCase):
                 else:
                     self.refused(roads, number)
 
+    def test_greater_lists_of_roads_with_a_road_thrown_in(self):
+        chance = random.Random(6)
+        for many in [6, 12, 25, 40] * 15:
+            roads = grown(chance, many)
+            roads[chance.randrange(many - 1)] = (chance.randrange(many), chance.randrange(many))
+            number = first_wrong(roads)
+            if number is None:
+                self.assertEqual(Village(roads).roads(), sorted([(min(road), max(road)) for road in roads]))
+            else:
+                self.refused(roads, number)
+
+    def test_a_ring_of_all_houses_is_refused_where_it_is_closed(self):
+        for many in [3, 10, 40]:
+            ring = row_of(many)[1:] + [(many - 1, 0)]
+            self.assertEqual(Village(ring).houses(), many)
+            self.refused(ring + [(0, 1)], many - 1)
+            self.refused(ring[::-1] + [(0, 1), (many, 0)], many - 1)
+
 
 def first_wrong(roads):
     """The number of the first road that [5] refuses, or None."""
